@@ -511,12 +511,6 @@ func TestNothingIsChangedOrShared(t *testing.T) {
 	if !same(x, kept) {
 		t.Errorf("a world changes with the names that were ordered")
 	}
-	x, _ = world.Do(doesAll(t, w, bad(1)), d)
-	kept = copied(x)
-	d.Names[0], d.Names[1] = "s", "t"
-	if !same(x, kept) {
-		t.Errorf("a world changes with the names that were asked for")
-	}
 	seed, rules, clients := slices.Grow([]byte("seed"), 9), rulesOf(text1), []string{"ann", "bob", "cid"}
 	x, e := world.New(seed, 2, 3, 3, 2, rules, clients)
 	if e != api.OK || seed[:5][4] != 0 || !rule.Same(rules, rulesOf(text1)) {
@@ -530,17 +524,6 @@ func TestNothingIsChangedOrShared(t *testing.T) {
 	keys[0].Log = 9
 	if !same(x, begin(t)) {
 		t.Errorf("a world changes with its keys")
-	}
-}
-
-// TestListsOfOneClientAreItsOwn: two clients that have talked go on by themselves.
-func TestListsOfOneClientAreItsOwn(t *testing.T) {
-	w := doesAll(t, issued(t), talk("ann", "bob"))
-	pool := w.Clients[1].Pool.L
-	was := slices.Clone(pool)
-	clear(w.Clients[0].Pool.L)
-	if !slices.Equal(pool, was) {
-		t.Errorf("the heads of the one are those of the other one")
 	}
 }
 
