@@ -1,6 +1,7 @@
 package console
 
 import (
+	"slices"
 	"strconv"
 	"strings"
 
@@ -30,7 +31,7 @@ func gaveUp(thrown any) bool {
 }
 
 func wordsOf(s string) []string {
-	return strings.FieldsFunc(s, func(r rune) bool { return r == ' ' })
+	return slices.DeleteFunc(strings.Split(s, " "), func(word string) bool { return word == "" })
 }
 
 // read is the doing that a line's words make.
